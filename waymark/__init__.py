@@ -1,0 +1,1 @@
+"""Waymark: addresses, and patterns of the ways in them."""
