@@ -1,7 +1,7 @@
 """Tells where a file leaves the part of Python that the program keeps to.
 
-What can be seen of a single file by its tree is told here, by the rule's number and the line; what no walk over the
-tree can see (what a rule asks of the sense of the code) is left to the reader.
+It tells a part of the rules alone, by the rule's number and the line. Nothing is looked at for L13, L21 to L24, L26
+and L28, and of L15, L17, L18 and L19 only what stands below: these are left to the reader.
 """
 
 import ast
