@@ -4,49 +4,9 @@ import copy
 import itertools
 import unittest
 
+from samples import (BARE, DOOR, FULL, HOUSE, MARK, NO_SIGNS, QUESTION, SCHEME, SIGNS, WAY, Hostile, of_other_kinds,
+                     repr_of, with_part)
 from waymark.addresses import is_address, is_whole
-
-SIGNS = "".join(chr(number) for number in range(32, 127) if number != 37)
-BARE = ("", None, None, (False, (), False), None, None)
-FULL = ("http", "a.b", 80, (True, ("x", "y"), False), (("q", "1"), ("r", None)), "m")
-SCHEME, HOUSE, DOOR, WAY, QUESTION, MARK = range(6)
-
-
-class Hostile:
-    """A thing that can't be compared, counted, walked or tested for truth."""
-
-    def fail(self, *others):
-        raise RuntimeError("asked too much of")
-
-    __eq__ = __ne__ = __lt__ = __le__ = __gt__ = __ge__ = __len__ = __iter__ = __bool__ = __getitem__ = fail
-    __contains__ = __int__ = __index__ = __str__ = __hash__ = fail
-
-
-def nested(kind, depth):
-    thing = kind()
-    for turn in range(depth - 1):
-        thing = kind([thing])
-    return thing
-
-
-def nested_dicts(depth):
-    thing = {}
-    for turn in range(depth - 1):
-        thing = {"a": thing}
-    return thing
-
-
-def of_other_kinds():
-    return [0, 1, -1, 80, 10 ** 60, 1.5, 80.0, float("nan"), 1j, True, False, b"", b"a", bytearray(b"a"),
-            [], ["a"], {}, {"a": "b"}, set(), {"a"}, frozenset(("a",)), range(3), object(), object, len, Hostile(),
-            nested(tuple, 60), nested(list, 60), nested_dicts(60)]
-
-
-NO_SIGNS = ("\n", "\t", "\r", "\0", "\x1f", "a\n", "\na", "a\tb", "a\n\n", "x" * 7 + "\n")
-
-
-def with_part(address, place, part):
-    return address[:place] + (part,) + address[place + 1:]
 
 
 class Asking(unittest.TestCase):
@@ -55,13 +15,6 @@ class Asking(unittest.TestCase):
 
     def tell_part(self, place, part, told, address=FULL):
         self.tell(with_part(address, place, part), told)
-
-
-def repr_of(thing):
-    try:
-        return repr(thing)
-    except RuntimeError:
-        return "a hostile thing"
 
 
 class WhatIsOne(Asking):

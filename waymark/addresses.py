@@ -2,6 +2,17 @@
 
 from waymark.signs import LETTERS, LETTERS_AND_FIGURES, is_text, made_of
 
+SCHEME = 0
+HOUSE = 1
+DOOR = 2
+WAY = 3
+QUESTION = 4
+MARK = 5
+
+ROOTED = 0
+STEPS = 1
+ENDS = 2
+
 LONGEST_SCHEME = 8
 LONGEST_HOUSE = 60
 LAST_DOOR = 65535
@@ -12,27 +23,26 @@ def is_address(thing):
 
 
 def is_whole(address):
-    return address[0] != ""
+    return address[SCHEME] != ""
 
 
 # Each part is asked for its kind ahead of all else, so that a thing of another kind is told, never stumbled over.
 def parts_stand(thing):
     return (
-        is_scheme(thing[0])
-        and is_house(thing[1])
-        and is_door(thing[2])
-        and is_way(thing[3])
-        and is_question(thing[4])
-        and is_text_or_none(thing[5])
+        is_scheme(thing[SCHEME])
+        and is_house(thing[HOUSE])
+        and is_door(thing[DOOR])
+        and is_way(thing[WAY])
+        and is_question(thing[QUESTION])
+        and is_text_or_none(thing[MARK])
     )
 
 
 def parts_agree(address):
-    has_house = address[1] is not None
-    if address[2] is not None and not has_house:
+    has_house = address[HOUSE] is not None
+    if address[DOOR] is not None and not has_house:
         return False
-    rooted = address[3][0]
-    return rooted or not (is_whole(address) or has_house)
+    return address[WAY][ROOTED] or not (is_whole(address) or has_house)
 
 
 def is_scheme(thing):
@@ -52,9 +62,9 @@ def is_door(thing):
 def is_way(thing):
     if not is_tuple(thing, 3):
         return False
-    if not (isinstance(thing[0], bool) and is_steps(thing[1]) and isinstance(thing[2], bool)):
+    if not (isinstance(thing[ROOTED], bool) and is_steps(thing[STEPS]) and isinstance(thing[ENDS], bool)):
         return False
-    return len(thing[1]) > 0 or thing[0] == thing[2]
+    return len(thing[STEPS]) > 0 or thing[ROOTED] == thing[ENDS]
 
 
 def is_steps(thing):

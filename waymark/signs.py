@@ -3,7 +3,12 @@
 SIGNS = " !\"#$&'()*+,-./0123456789:;<=>?@ABCDEFGHIJKLMNOPQRSTUVWXYZ[\\]^_`abcdefghijklmnopqrstuvwxyz{|}~"
 LETTERS = "abcdefghijklmnopqrstuvwxyzABCDEFGHIJKLMNOPQRSTUVWXYZ"
 LETTERS_AND_FIGURES = "abcdefghijklmnopqrstuvwxyzABCDEFGHIJKLMNOPQRSTUVWXYZ0123456789"
+FIGURES = "0123456789"
 PLAIN = "abcdefghijklmnopqrstuvwxyzABCDEFGHIJKLMNOPQRSTUVWXYZ0123456789-_."
+
+FREE_IN_STEPS = "!$'()*,;@&=+"
+FREE_IN_QUESTIONS = "!$'()*,;@+/?:"
+FREE_IN_MARKS = "!$'()*,;@&=+/?:"
 
 FIRST_NUMBER = 32
 LAST_NUMBER = 126

@@ -1,0 +1,126 @@
+"""Signs, addresses and things of other kinds that the tests ask about."""
+
+import itertools
+import string
+import unittest
+
+SIGNS = "".join(chr(number) for number in range(32, 127) if number != 37)
+PLAIN = string.ascii_letters + string.digits + "-_."
+STEP_FREE = "!$'()*,;@&=+"
+ASKED_FREE = "!$'()*,;@+/?:"
+MARK_FREE = "!$'()*,;@&=+/?:"
+NO_SIGNS = ("\n", "\t", "\r", "\0", "\x1f", "a\n", "\na", "a\tb", "a\n\n", "x" * 7 + "\n")
+
+ROOT = (True, (), True)
+NO_WAY = (False, (), False)
+BARE = ("", None, None, NO_WAY, None, None)
+FULL = ("http", "a.b", 80, (True, ("x", "y"), False), (("q", "1"), ("r", None)), "m")
+SCHEME, HOUSE, DOOR, WAY, QUESTION, MARK = range(6)
+
+# Each part beside the text that shows it.
+SHOWN_SCHEMES = (("", ""), ("x", "x:"), ("Http2", "Http2:"), ("abcdefgh", "abcdefgh:"))
+SHOWN_HOUSES = (((None, None), ""), (("h", None), "//h"), (("h", 0), "//h:0"),
+                ((" ~/:", 65535), "//~20~7e~2f~3a:65535"))
+SHOWN_ROOTED = ((ROOT, "/"), ((True, ("a",), False), "/a"), ((True, ("a",), True), "/a/"),
+                ((True, ("a", "..", "b/c"), False), "/a/../b~2fc"), ((True, (".", "x:"), True), "/./x~3a/"))
+SHOWN_OTHERS = ((NO_WAY, ""), ((False, ("a",), False), "a"), ((False, ("a",), True), "a/"),
+                ((False, ("..", "x:", "?"), False), "../x~3a/~3f"), ((False, ("x:", "b"), True), "x~3a/b/"))
+SHOWN_QUESTIONS = ((None, ""), ((), "?"), ((("a", None),), "?a"), ((("a", ""),), "?a="), ((("a", "b"),), "?a=b"),
+                   ((("a", None), ("a", ""), ("=", "&")), "?a&a=&~3d=~26"))
+SHOWN_MARKS = ((None, ""), ("", "#"), ("m", "#m"), ("#/? ~", "#~23~2f~3f~20~7e"))
+
+
+def shown_addresses():
+    """Addresses with each part there and left out, in every mix, each beside the text that shows it."""
+    told = []
+    for scheme, house, way, question, mark in itertools.product(
+            SHOWN_SCHEMES, SHOWN_HOUSES, SHOWN_ROOTED + SHOWN_OTHERS, SHOWN_QUESTIONS, SHOWN_MARKS):
+        if way[0][0] or (scheme[0] == "" and house[0][0] is None):
+            parts = (scheme, house, way, question, mark)
+            address = (scheme[0],) + house[0] + (way[0], question[0], mark[0])
+            told.append((address, "".join(text for part, text in parts)))
+    return told
+
+
+def chance_text(chance, least, most, signs=SIGNS):
+    return "".join(chance.choices(signs, k=chance.randint(least, most)))
+
+
+def chance_step(chance):
+    return chance.choice([".", "..", "a", "b", "...", chance_text(chance, 1, 4)])
+
+
+def chance_way(chance, rooted, most=5):
+    steps = tuple(chance_step(chance) for turn in range(chance.randint(0, most)))
+    return (rooted, steps, chance.random() < 0.5 if steps else rooted)
+
+
+def chance_question(chance):
+    if chance.random() < 0.4:
+        return None
+    return tuple((chance_text(chance, 1, 3), chance.choice([None, "", chance_text(chance, 0, 3)]))
+                 for turn in range(chance.randint(0, 3)))
+
+
+def chance_address(chance, whole=None):
+    if whole is None:
+        whole = chance.random() < 0.5
+    scheme = chance.choice(["x", "X", "http", "a1"]) if whole else ""
+    house = chance.choice([None, "h", "H", chance_text(chance, 1, 5)])
+    door = None if house is None else chance.choice([None, 0, 80, chance.randint(0, 65535)])
+    rooted = whole or house is not None or chance.random() < 0.4
+    mark = chance.choice([None, "", chance_text(chance, 0, 3)])
+    return (scheme, house, door, chance_way(chance, rooted), chance_question(chance), mark)
+
+
+def with_part(address, place, part):
+    return address[:place] + (part,) + address[place + 1:]
+
+
+class Hostile:
+    """A thing that can't be compared, counted, walked or tested for truth."""
+
+    def fail(self, *others):
+        raise RuntimeError("asked too much of")
+
+    __eq__ = __ne__ = __lt__ = __le__ = __gt__ = __ge__ = __len__ = __iter__ = __bool__ = __getitem__ = fail
+    __contains__ = __int__ = __index__ = __str__ = __hash__ = fail
+
+
+def nested(kind, depth):
+    thing = kind()
+    for turn in range(depth - 1):
+        thing = kind([thing])
+    return thing
+
+
+def nested_dicts(depth):
+    thing = {}
+    for turn in range(depth - 1):
+        thing = {"a": thing}
+    return thing
+
+
+def of_other_kinds():
+    return [0, 1, -1, 80, 10 ** 60, 1.5, 80.0, float("nan"), 1j, True, False, b"", b"a", bytearray(b"a"),
+            [], ["a"], {}, {"a": "b"}, set(), {"a"}, frozenset(("a",)), range(3), object(), object, len, Hostile(),
+            nested(tuple, 60), nested(list, 60), nested_dicts(60)]
+
+
+def repr_of(thing):
+    try:
+        return repr(thing)
+    except RuntimeError:
+        return "a hostile thing"
+
+
+class Telling(unittest.TestCase):
+    def same(self, told, due, of=None):
+        """The same, and of the same kinds: True isn't 1 here, nor a list a tuple."""
+        self.assertEqual(repr(told), repr(due), of)
+
+    def refused(self, refusal, ask, *things):
+        with self.assertRaises(refusal) as caught:
+            ask(*things)
+        self.assertIs(caught.exception.__class__, refusal)
+        return caught.exception
