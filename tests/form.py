@@ -1,7 +1,7 @@
 """Tells where a file leaves the part of Python that the program keeps to.
 
-It tells a part of the rules alone, by the rule's number and the line. Nothing is looked at for L13, L21 to L24, L26
-and L28, and of L15, L17, L18 and L19 only what stands below: these are left to the reader.
+It tells a part of the rules alone, by the rule's number and the line. Nothing is looked at for L13 and L28, and of
+L15, L17, L18, L19, L22, L23 and L26 only what stands below: these are left to the reader.
 """
 
 import ast
@@ -34,6 +34,14 @@ NOT_AS_NAMES = set("""
 WORDS = re.compile(r"\b(type|typing|typing_extensions|enum|Enum|IntEnum|StrEnum|Flag|IntFlag|Generic|Protocol|ABC|"
                    r"ABCMeta|namedtuple|NamedTuple|TypedDict|TYPE_CHECKING|abstractmethod)\b|"
                    r"dataclass|overload|contextmanager")
+KEYWORDS = {"sorted": {"key", "reverse"}, "min": {"key", "default"}, "max": {"key", "default"}, "sum": {"start"},
+            "enumerate": {"start"}, "zip": {"strict"}}
+WALKED = {"zip", "enumerate", "reversed", "range"}
+WALKED_METHODS = {"items", "keys", "values"}
+WALKERS = {"list", "tuple", "dict", "sorted", "sum", "any", "all", "enumerate", "zip", "min", "max"}
+VALUES_FREE = {"count", "index", "title", "find", "get", "join", "lower", "upper", "split", "strip", "copy", "add"}
+PYTHONS_KINDS = (str, int, list, tuple, dict, set, frozenset, bytes, ValueError)
+PYTHONS_VALUES = {name for kind in PYTHONS_KINDS for name in dir(kind)}
 PLAIN_NAME = re.compile(r"[A-Za-z][A-Za-z0-9_]*\Z")
 PYTHONS_NAMES = set(dir(builtins))
 
@@ -44,6 +52,8 @@ def faults(source, package="waymark"):
     own = own_methods(tree)
     for node in ast.walk(tree):
         told += [f"{rule} line {getattr(node, 'lineno', 0)}" for rule in node_faults(node, own)]
+        told += [f"{rule} line {child.lineno}" for child in ast.iter_child_nodes(node) if isinstance(child, ast.expr)
+                 for rule in standing_faults(child, node)]
     return told
 
 
@@ -109,6 +119,42 @@ def is_plain(value):
     return isinstance(value, (ast.Constant, ast.Name))
 
 
+def standing_faults(node, parent):
+    """Where a thing may stand, told by what is around it."""
+    if is_set(node) and not set_may_stand(parent):
+        yield "L24"
+    if is_walked(node) and not is_walker(node, parent):
+        yield "L23"
+
+
+def is_set(node):
+    return isinstance(node, ast.Set) or called_name(node) in ("set", "frozenset")
+
+
+def set_may_stand(parent):
+    if isinstance(parent, ast.Compare):
+        return isinstance(parent.ops[0], (ast.In, ast.NotIn)) or all(
+            is_set(side) or isinstance(side, ast.BinOp) for side in [parent.left] + parent.comparators)
+    return isinstance(parent, ast.BinOp) or called_name(parent) in ("len", "sorted") and not parent.keywords
+
+
+def is_walked(node):
+    return called_name(node) in WALKED or (
+        isinstance(node, ast.Call) and isinstance(node.func, ast.Attribute) and node.func.attr in WALKED_METHODS)
+
+
+def is_walker(node, parent):
+    if isinstance(parent, (ast.For, ast.comprehension)):
+        return parent.iter is node
+    if isinstance(parent, ast.Call) and isinstance(parent.func, ast.Attribute):
+        return parent.func.attr == "join" and isinstance(parent.func.value, ast.Constant)
+    return called_name(parent) in WALKERS
+
+
+def called_name(node):
+    return node.func.id if isinstance(node, ast.Call) and isinstance(node.func, ast.Name) else None
+
+
 def node_faults(node, own):
     if isinstance(node, ast.stmt):
         yield from statement_faults(node)
@@ -118,6 +164,8 @@ def node_faults(node, own):
         yield from parameter_faults(node.args)
     if isinstance(node, ast.arg) and not PLAIN_NAME.match(node.arg):
         yield "L12"
+    if getattr(node, "annotation", None) or getattr(node, "returns", None):
+        yield "L21"
     if isinstance(node, ast.comprehension) and (node.is_async or len(node.ifs) > 1):
         yield "L7"
     if isinstance(node, ast.ExceptHandler):
@@ -154,6 +202,8 @@ def class_faults(node):
     methods = [item.name for item in node.body if isinstance(item, ast.FunctionDef)]
     if len(methods) != len(set(methods)):
         yield "L18"
+    if set(methods) & (PYTHONS_VALUES - METHODS - TWO_UNDERSCORES - {"add", "discard"}):
+        yield "L26"
 
 
 def parameter_faults(args):
@@ -175,9 +225,13 @@ def expression_faults(node, own):
             yield "L17"
         if not PLAIN_NAME.match(node.attr) and node.attr != "__init__":
             yield "L12"
+        if isinstance(node.ctx, ast.Store) and node.attr in PYTHONS_VALUES - VALUES_FREE:
+            yield "L26"
     if isinstance(node, ast.Call) and isinstance(node.func, ast.Attribute):
         if node.func.attr not in METHODS | own | {"__init__"}:
             yield "L25"
+    if isinstance(node, ast.Call):
+        yield from keyword_faults(node)
     if isinstance(node, ast.ListComp) and len(node.generators) > 1:
         yield "L7"
     if isinstance(node, ast.BinOp):
@@ -186,6 +240,14 @@ def expression_faults(node, own):
         yield from comparison_faults(node)
     if isinstance(node, ast.FormattedValue) and (not isinstance(node.value, ast.Name) or node.format_spec):
         yield "L7"
+
+
+def keyword_faults(node):
+    given = {keyword.arg for keyword in node.keywords}
+    if called_name(node) in OWN_NAMES and given - KEYWORDS.get(called_name(node), set()):
+        yield "L22"
+    if given and isinstance(node.func, ast.Attribute) and node.func.attr in METHODS:
+        yield "L22"
 
 
 def constant_faults(value):

@@ -3,7 +3,7 @@
 import itertools
 import re
 
-from samples import ASKED_FREE, MARK_FREE, PLAIN, STEP_FREE
+from samples import ASKED_FREE, MARK_FREE, NO_WAY, PLAIN, ROOT, STEP_FREE
 
 PAIR = "~(?!25|7[fF])[2-7][0-9a-fA-F]"
 
@@ -80,3 +80,64 @@ def address_writings(address):
     if mark is not None:
         rows += [["#"], all_writings(mark, MARK_FREE)]
     return ["".join(texts) for texts in itertools.product(*rows)]
+
+
+def slowly_gone(way):
+    """Points [15] and [16] by another way: one dot at a time is struck out, with what it takes away."""
+    rooted, steps, ends = way
+    left = list(steps)
+    place = 0
+    while place < len(left):
+        if left[place] == ".":
+            del left[place]
+        elif left[place] == ".." and place > 0 and left[place - 1] != "..":
+            del left[place - 1:place + 1]
+            place -= 1
+        elif left[place] == ".." and rooted:
+            del left[place]
+        else:
+            place += 1
+    if not left and rooted:
+        return ROOT
+    if not left:
+        return (False, (".",), True) if steps else NO_WAY
+    return (rooted, tuple(left), ends or steps[-1] in (".", ".."))
+
+
+def slow_holder(way):
+    rooted, steps, ends = slowly_gone(way)
+    return steps if ends else steps[:-1]
+
+
+def slowly_resolved(base, address):
+    """Point [18] by its words, of a whole base."""
+    base_scheme, base_house, base_door, base_way, base_question, base_mark = base
+    scheme, house, door, way, question, mark = address
+    if not scheme:
+        scheme = base_scheme
+        if house is None:
+            house, door = base_house, base_door
+            if not way[0] and way[1]:
+                way = (True, slow_holder(base_way) + way[1], way[2])
+            elif not way[0]:
+                way = base_way
+                question = base_question if question is None else question
+    return (scheme, house, door, slowly_gone(way), question, mark)
+
+
+def slowly_relative(base, goal):
+    """Points [20] and [21] by their words, of two whole addresses."""
+    base_scheme, base_house, base_door, base_way, base_question, base_mark = base
+    scheme, house, door, way, question, mark = goal
+    base_way, way = slowly_gone(base_way), slowly_gone(way)
+    if scheme != base_scheme or (base_house is not None and house is None):
+        return (scheme, house, door, way, question, mark)
+    if (house, door) != (base_house, base_door):
+        return ("", house, door, way, question, mark)
+    if way == base_way and (question is not None or base_question is None):
+        return ("", None, None, NO_WAY, None if question == base_question else question, mark)
+    up, down = list(slow_holder(base_way)), list(slow_holder(way))
+    while up and down and up[0] == down[0]:
+        del up[0], down[0]
+    steps = [".."] * len(up) + down + ([] if way[2] else [way[1][-1]])
+    return ("", None, None, (False, tuple(steps or ["."]), way[2]), question, mark)

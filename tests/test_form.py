@@ -6,7 +6,7 @@ import pathlib
 import re
 import unittest
 
-from form import faults
+from form import faults, own_methods
 
 PACKAGE = pathlib.Path(__file__).resolve().parent.parent / "waymark"
 FORBIDDEN_STEMS = {"test", "tests", "testing", "site", "conftest", "sitecustomize", "usercustomize", "typing", "enum"}
@@ -62,6 +62,16 @@ class ThePackage(unittest.TestCase):
                 del left[stem]
 
 
+    def test_no_name_is_a_method_here_and_a_value_there(self):
+        methods, values = set(), set()
+        for path in package_files():
+            tree = ast.parse(path.read_text(encoding="utf-8"))
+            methods |= own_methods(tree)
+            values |= {node.attr for node in ast.walk(tree)
+                       if isinstance(node, ast.Attribute) and isinstance(node.ctx, ast.Store)}
+        self.assertFalse(methods & values)
+
+
 class TheWatch(unittest.TestCase):
     def test_what_it_tells(self):
         told = {
@@ -75,7 +85,13 @@ class TheWatch(unittest.TestCase):
             "def f(a):\n    return chr(a)\n": "L8", "X = '%'\n": "L27", "def f(n):\n    return 2 ** n\n": "L27",
             "X = 1  # type\n": "L17", "X = 1  # \xe4\n": "L14", "X = 1  # " + "a" * 120 + "\n": "L10",
             "def f():\n" + "    pass\n" * 40: "L10", "def f():\n    try:\n        pass\n    except Exception:\n"
-            "        pass\n": "L19",
+            "        pass\n": "L19", "def f(a: int):\n    pass\n": "L21", "def f(a) -> int:\n    pass\n": "L21",
+            "def f(a):\n    return int(a, base=16)\n": "L22", "def f(a):\n    return a.split(sep='b')\n": "L22",
+            "def f(a):\n    b = zip(a, a)\n": "L23", "def f(a):\n    return a.items()\n": "L23",
+            "def f(a):\n    b = set(a)\n": "L24", "def f(a):\n    return set(a)\n": "L24",
+            "def f(a):\n    for b in set(a):\n        pass\n": "L24", "def f(a, b):\n    return set(a) == b\n": "L24",
+            "class A:\n    def title(self):\n        pass\n": "L26",
+            "class A:\n    def f(self):\n        self.values = 1\n": "L26",
         }
         for source, rule in told.items():
             with self.subTest(source=source):
@@ -83,7 +99,8 @@ class TheWatch(unittest.TestCase):
 
     def test_what_it_lets_be(self):
         source = ('"""Words."""\n\nfrom waymark.errors import NoRow\n\nX = {"a": (1, -1)}\n\n\n'
-                  'def f(a, b=""):\n    if a is None:\n        raise NoRow()\n'
+                  'def f(a, b=""):\n    if a is None or len(set(a)) > 2 or set(a) == set(b):\n        raise NoRow()\n'
+                  '    for k, x in enumerate(sorted(a, key=len), start=1):\n        a = list(zip(a, range(k)))\n'
                   '    return "".join([x for x in a if x in b])\n')
         self.assertEqual(faults(source), [])
 

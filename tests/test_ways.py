@@ -5,6 +5,7 @@ import random
 import unittest
 
 from samples import NO_WAY, ROOT, Telling, chance_way
+from slow import slowly_gone
 from waymark.addresses import is_address
 from waymark.reading import read
 from waymark.showing import show
@@ -17,28 +18,6 @@ def way_of(text):
 
 def shown(way):
     return show(("", None, None, way, None, None))
-
-
-def slowly_gone(way):
-    """Points [15] and [16] by another way: one dot at a time is struck out, with what it takes away."""
-    rooted, steps, ends = way
-    left = list(steps)
-    place = 0
-    while place < len(left):
-        if left[place] == ".":
-            del left[place]
-        elif left[place] == ".." and place > 0 and left[place - 1] != "..":
-            del left[place - 1:place + 1]
-            place -= 1
-        elif left[place] == ".." and rooted:
-            del left[place]
-        else:
-            place += 1
-    if not left and rooted:
-        return ROOT
-    if not left:
-        return (False, (".",), True) if steps else NO_WAY
-    return (rooted, tuple(left), ends or steps[-1] in (".", ".."))
 
 
 class Going(Telling):

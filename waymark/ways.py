@@ -1,9 +1,10 @@
 """Ways gone step by step, and their holders."""
 
-from waymark.addresses import ENDS, ROOTED, STEPS
+from waymark.addresses import ENDS, QUESTION, ROOTED, STEPS, WAY
 
 STAY = "."
 UP = ".."
+NO_WAY = (False, (), False)
 
 
 def is_dot(step):
@@ -36,6 +37,10 @@ def go_up(left, rooted):
         left.pop()
     elif not rooted:
         left.append(UP)
+
+
+def with_way_gone(address):
+    return address[:WAY] + (gone(address[WAY]),) + address[QUESTION:]
 
 
 def holder(way):
