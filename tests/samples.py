@@ -73,6 +73,70 @@ def chance_address(chance, whole=None):
     return (scheme, house, door, chance_way(chance, rooted), chance_question(chance), mark)
 
 
+# Short texts of few signs, so that what is drawn of them often meets.
+FEW_TEXTS = ("a", "b", "ab", "ba", "0", "1", "10", "01", "a1", "...", ".a", "a.", "a b", "/")
+NAMES = ("a", "b", "c", "d", "e", "f", "g", "h", "i", "j", "k", "abcdefgh")
+
+
+def chance_filled_text(chance):
+    return chance.choice(FEW_TEXTS + (chance_text(chance, 1, 5),))
+
+
+def chance_undotted(chance):
+    text = chance_filled_text(chance)
+    return "..." if text in (".", "..") else text
+
+
+def chance_piece(chance, word, name):
+    if word == "step":
+        return ("step", chance_undotted(chance))
+    if word == "part":
+        head, tail = chance.choice(("", ".", chance_filled_text(chance))), chance.choice(("", ".", "a", "0"))
+        return ("part", head, name, tail if head + tail else "b")
+    return (word, name)
+
+
+def chance_pattern(chance, most=4):
+    names = chance.sample(NAMES, len(NAMES))
+    words = chance.choices(("step", "part", "number", "word", "gap"), k=chance.randint(0, most))
+    if words and chance.random() < 0.3:
+        words[-1] = "rest"
+    pieces = tuple(chance_piece(chance, word, name) for word, name in zip(words, names))
+    return (pieces, chance.random() < 0.5 if pieces else True)
+
+
+def chance_value(chance, piece):
+    """A value of the kind that the gap asks for."""
+    if piece[0] == "part":
+        value = chance_filled_text(chance)
+        return "..." if piece[1] + value + piece[3] == ".." else value
+    if piece[0] == "number":
+        return chance.choice((0, 1, 10, chance.randint(0, 10 ** 60 - 1)))
+    if piece[0] == "word":
+        return chance.choice(("a", "b", "ab", chance_text(chance, 1, 60, string.ascii_lowercase)))
+    if piece[0] == "rest":
+        return [chance_undotted(chance) for turn in range(chance.randint(1, 4))]
+    return chance_undotted(chance)
+
+
+def gaps_of(pattern):
+    return [piece for piece in pattern[0] if piece[0] != "step"]
+
+
+def name_in(gap):
+    return gap[2] if gap[0] == "part" else gap[1]
+
+
+def chance_values(chance, pattern):
+    """Values that fill the pattern, in its order."""
+    return [(name_in(gap), chance_value(chance, gap)) for gap in gaps_of(pattern)]
+
+
+def chance_table(chance, most=16, pieces=4):
+    names = chance.sample(NAMES + ("m", "n", "o", "p", "q", "r"), chance.randint(0, most))
+    return [(name, chance_pattern(chance, pieces)) for name in names]
+
+
 def with_part(address, place, part):
     return address[:place] + (part,) + address[place + 1:]
 
@@ -110,8 +174,8 @@ def of_other_kinds():
 def repr_of(thing):
     try:
         return repr(thing)
-    except RuntimeError:
-        return "a hostile thing"
+    except (RuntimeError, ValueError):
+        return "a thing that can't be told"
 
 
 class Telling(unittest.TestCase):

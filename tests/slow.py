@@ -3,7 +3,7 @@
 import itertools
 import re
 
-from samples import ASKED_FREE, MARK_FREE, NO_WAY, PLAIN, ROOT, STEP_FREE
+from samples import ASKED_FREE, MARK_FREE, NO_WAY, PLAIN, ROOT, STEP_FREE, gaps_of, name_in
 
 PAIR = "~(?!25|7[fF])[2-7][0-9a-fA-F]"
 
@@ -141,3 +141,91 @@ def slowly_relative(base, goal):
         del up[0], down[0]
     steps = [".."] * len(up) + down + ([] if way[2] else [way[1][-1]])
     return ("", None, None, (False, tuple(steps or ["."]), way[2]), question, mark)
+
+
+NO_DOT = "(?!\\.\\.?(?:\n|\\Z))"
+STEP_BOUND = NO_DOT + "[^\n]+"
+
+
+def piece_pattern(piece):
+    """What fits the piece, by [28], as Python's own pattern over steps with a row's end between two."""
+    if piece[0] == "step":
+        return NO_DOT + re.escape(piece[1])
+    if piece[0] == "part":
+        return NO_DOT + re.escape(piece[1]) + "(?P<" + piece[2] + ">[^\n]+)" + re.escape(piece[3])
+    inside = {"number": "0|[1-9][0-9]{0,59}", "word": "[a-z]{1,60}", "gap": STEP_BOUND,
+              "rest": STEP_BOUND + "(?:\n" + STEP_BOUND + ")*"}[piece[0]]
+    return "(?P<" + piece[1] + ">" + inside + ")"
+
+
+def fitting_pattern(pattern):
+    return re.compile("\n".join(piece_pattern(piece) for piece in pattern[0]) + "\\Z")
+
+
+def slowly_fits(pattern, way):
+    return slowly_found(pattern, way) is not None
+
+
+def slowly_found(pattern, way):
+    rooted, steps, ends = way
+    return fitting_pattern(pattern).match("\n".join(steps)) if rooted and ends == pattern[1] else None
+
+
+def slowly_bound(pattern, way):
+    """Points [29] and [30] by another way."""
+    found = slowly_found(pattern, way)
+    if found is None:
+        return None
+    values = []
+    for gap in gaps_of(pattern):
+        text = found.group(name_in(gap))
+        values.append((name_in(gap), {"number": int, "rest": lambda rest: rest.split("\n")}.get(gap[0], str)(text)))
+    return values
+
+
+def is_some_text(thing):
+    return isinstance(thing, str) and re.fullmatch("[ -$&-~]+", thing) is not None
+
+
+def is_some_step(thing):
+    return is_some_text(thing) and thing not in (".", "..")
+
+
+def is_due_value(gap, value):
+    """Whether the value is of the gap's kind, by [31]."""
+    if gap[0] == "part":
+        return is_some_text(value) and is_some_step(gap[1] + value + gap[3])
+    if gap[0] == "number":
+        return isinstance(value, int) and not isinstance(value, bool) and value in range(10 ** 60)
+    if gap[0] == "word":
+        return isinstance(value, str) and re.fullmatch("[a-z]{1,60}", value) is not None
+    if gap[0] == "rest":
+        return isinstance(value, list) and value != [] and all(is_some_step(text) for text in value)
+    return is_some_step(value)
+
+
+def name_refused(pattern, values):
+    """The name with which [31] refuses the values; None where it takes them."""
+    for gap in gaps_of(pattern):
+        named = [value for name, value in values if name == name_in(gap)]
+        if len(named) != 1 or not is_due_value(gap, named[0]):
+            return name_in(gap)
+    others = [name for name, value in values if name not in [name_in(gap) for gap in gaps_of(pattern)]]
+    return others[0] if others else None
+
+
+def slowly_filled(pattern, values):
+    """Point [31] by its words, of values that it takes."""
+    steps = []
+    for piece in pattern[0]:
+        if piece[0] == "step":
+            steps.append(piece[1])
+            continue
+        value = dict(values)[name_in(piece)]
+        if piece[0] == "part":
+            steps.append("".join((piece[1], value, piece[3])))
+        elif piece[0] == "rest":
+            steps += value
+        else:
+            steps.append(f"{value}")
+    return (True, tuple(steps), pattern[1])

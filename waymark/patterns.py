@@ -6,6 +6,9 @@ from waymark.showing import slashed
 from waymark.signs import FREE_IN_STEPS, SMALL_LETTERS, is_text, made_of, undone, written
 from waymark.ways import is_dot
 
+PIECES = 0
+CLOSES = 1
+
 MOST_PIECES = 12
 LONGEST_NAME = 8
 
@@ -15,9 +18,9 @@ WRITTEN_WORDS = ("number", "word", "rest")
 
 
 def is_pattern(thing):
-    if not is_tuple(thing, 2) or not isinstance(thing[0], tuple) or not isinstance(thing[1], bool):
+    if not is_tuple(thing, 2) or not isinstance(thing[PIECES], tuple) or not isinstance(thing[CLOSES], bool):
         return False
-    return are_pieces(thing[0]) and (thing[1] or len(thing[0]) > 0)
+    return are_pieces(thing[PIECES]) and (thing[CLOSES] or len(thing[PIECES]) > 0)
 
 
 def are_pieces(things):
@@ -49,12 +52,29 @@ def rests_stand_last(pieces):
 
 
 def names_are_unlike(pieces):
-    names = [name_of(piece) for piece in pieces if piece[0] != "step"]
+    names = [name_of(piece) for piece in pieces if is_gap(piece)]
     return len(set(names)) == len(names)
+
+
+def is_gap(piece):
+    return piece[0] != "step"
 
 
 def name_of(gap):
     return gap[2] if gap[0] == "part" else gap[1]
+
+
+def head_of(piece):
+    return piece[1] if piece[0] == "part" else ""
+
+
+def tail_of(piece):
+    return piece[3] if piece[0] == "part" else ""
+
+
+def has_rest(pattern):
+    pieces = pattern[PIECES]
+    return len(pieces) > 0 and pieces[-1][0] == "rest"
 
 
 # What is no piece is read as something that is_piece tells from one, so that one asking at the end is enough.
@@ -89,7 +109,7 @@ def read_gap(head, inside, tail):
 
 
 def show_pattern(pattern):
-    return slashed(True, [shown_piece(piece) for piece in pattern[0]], pattern[1])
+    return slashed(True, [shown_piece(piece) for piece in pattern[PIECES]], pattern[CLOSES])
 
 
 def shown_piece(piece):
