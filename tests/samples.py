@@ -137,6 +137,23 @@ def chance_table(chance, most=16, pieces=4):
     return [(name, chance_pattern(chance, pieces)) for name in names]
 
 
+def chance_goal(chance, source):
+    """A pattern, each gap of which has the name of a gap of the source that is a piece of the same word."""
+    pieces = []
+    for gap in chance.sample(gaps_of(source), chance.randint(0, len(gaps_of(source)))):
+        if gap[0] != "rest":
+            pieces.append(chance_piece(chance, gap[0], name_in(gap)))
+    for turn in range(chance.randint(0, 2)):
+        pieces.insert(chance.randint(0, len(pieces)), ("step", chance_undotted(chance)))
+    rests = [gap for gap in gaps_of(source) if gap[0] == "rest" and chance.random() < 0.7]
+    return (tuple(pieces + rests), chance.random() < 0.5 if pieces + rests else True)
+
+
+def chance_rules(chance, most=8, pieces=3):
+    sources = [chance_pattern(chance, pieces) for turn in range(chance.randint(0, most))]
+    return [(source, chance_goal(chance, source)) for source in sources]
+
+
 def with_part(address, place, part):
     return address[:place] + (part,) + address[place + 1:]
 

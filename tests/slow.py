@@ -229,3 +229,39 @@ def slowly_filled(pattern, values):
         else:
             steps.append(f"{value}")
     return (True, tuple(steps), pattern[1])
+
+
+def all_ways(texts, counts):
+    """All rooted ways of these texts, of so many steps, ending and not."""
+    ways = []
+    for count in counts:
+        for steps in itertools.product(texts, repeat=count):
+            ways += [(True, steps, ends) for ends in ((False, True) if count else (True,))]
+    return ways
+
+
+def ways_that_fit(pattern, ways):
+    fitting = fitting_pattern(pattern)
+    return frozenset((True, steps, ends) for rooted, steps, ends in ways
+                     if rooted and ends == pattern[1] and fitting.match("\n".join(steps)))
+
+
+def slowly_led_on(rules, way):
+    """Point [41] by its words."""
+    for source, goal in rules:
+        values = slowly_bound(source, way)
+        if values is not None:
+            asked = [(name, value) for name, value in values if name in [name_in(gap) for gap in gaps_of(goal)]]
+            if name_refused(goal, asked) is None:
+                return slowly_filled(goal, asked)
+    return None
+
+
+def slow_trail(rules, way, most):
+    """Point [42] by its words: the ways first, however many, and then the end of those that count."""
+    ways = [way]
+    while len(ways) <= most and ways[-1] not in ways[:-1] and slowly_led_on(rules, ways[-1]) is not None:
+        ways.append(slowly_led_on(rules, ways[-1]))
+    if slowly_led_on(rules, ways[-1]) is None:
+        return ("rests", ways)
+    return ("ring" if ways[-1] in ways[:-1] else "more", ways)

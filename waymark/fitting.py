@@ -2,7 +2,7 @@
 
 from waymark.addresses import ENDS, ROOTED, STEPS, is_filled_text, is_whole_number
 from waymark.errors import NoValue
-from waymark.patterns import CLOSES, PIECES, has_rest, head_of, is_gap, name_of, tail_of
+from waymark.patterns import CLOSES, PIECES, has_rest, head_of, is_gap, name_of, names_of, tail_of
 from waymark.signs import FIGURES, SMALL_LETTERS, made_of
 from waymark.ways import is_dot
 
@@ -115,7 +115,7 @@ def steps_of_value(gap, value):
 
 
 def refuse_others(pattern, values):
-    names = [name_of(piece) for piece in pattern[PIECES] if is_gap(piece)]
+    names = names_of(pattern[PIECES])
     for name, value in values:
         if name not in names:
             raise NoValue(name)

@@ -52,8 +52,12 @@ def rests_stand_last(pieces):
 
 
 def names_are_unlike(pieces):
-    names = [name_of(piece) for piece in pieces if is_gap(piece)]
+    names = names_of(pieces)
     return len(set(names)) == len(names)
+
+
+def names_of(pieces):
+    return [name_of(piece) for piece in pieces if is_gap(piece)]
 
 
 def is_gap(piece):
